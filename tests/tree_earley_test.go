@@ -42,14 +42,18 @@ type treeGrammar struct {
 	rows    []treeRow
 	rowsOf  [][]int
 	numbers map[string]int
-	tokens  map[string]int
 	names   []string
+	// Those of tokens, apart.
+	tokens     map[string]int
+	tokenNames []string
 }
 
-var theGrammar = sync.OnceValue(func() *treeGrammar {
+var theGrammar = sync.OnceValue(func() *treeGrammar { return newTreeGrammar(treeRows) })
+
+func newTreeGrammar(rows string) *treeGrammar {
 	g := &treeGrammar{numbers: map[string]int{}, tokens: map[string]int{}}
-	for _, row := range strings.Split(strings.TrimSpace(treeRows), "\n") {
-		if row == "" {
+	for row := range strings.Lines(rows) {
+		if row == "\n" {
 			continue
 		}
 		for _, in := range placesOf(row) {
@@ -57,7 +61,7 @@ var theGrammar = sync.OnceValue(func() *treeGrammar {
 		}
 	}
 	return g
-})
+}
 
 // placesOf are those in which a row is there: of f, in a function, l, in a loop.
 func placesOf(row string) []string {
@@ -89,7 +93,7 @@ func (g *treeGrammar) addRow(text string, in string) {
 		action = "$1"
 	}
 	action, fresh, _ := strings.Cut(action, "!")
-	row.fresh, _ = strconv.Atoi(fresh)
+	row.fresh, _ = strconv.Atoi(strings.TrimSpace(fresh))
 	row.parts, _ = partsOf(strings.Fields(strings.NewReplacer("(", " ( ", ")", " ) ").Replace(action)))
 	g.rows = append(g.rows, row)
 	g.rowsOf[row.left] = append(g.rowsOf[row.left], len(g.rows)-1)
@@ -125,6 +129,7 @@ func (g *treeGrammar) number(name string) int {
 	if name[0] == '\'' || strings.ToUpper(name[:1]) == name[:1] {
 		if g.tokens[name] == 0 {
 			g.tokens[name] = -1 - len(g.tokens)
+			g.tokenNames = append(g.tokenNames, name)
 		}
 		return g.tokens[name]
 	}
@@ -193,7 +198,6 @@ type way struct {
 	ahead *way
 	got   []*branch
 	text  string
-	line  int64
 	start int
 }
 

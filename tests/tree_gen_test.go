@@ -42,7 +42,6 @@ type rowWriter struct {
 	g     *treeGrammar
 	least []int
 	r     *rand.Rand
-	names int
 }
 
 // writtenInstead are the rows of targets that can be some.
@@ -52,15 +51,7 @@ func writtenInstead() map[string]string {
 
 // writerGrammar is that of the second parser, with the targets' rows beside.
 var writerGrammar = sync.OnceValue(func() *rowWriter {
-	g := &treeGrammar{numbers: map[string]int{}, tokens: map[string]int{}}
-	for _, row := range strings.Split(strings.TrimSpace(treeRows+targetRows), "\n") {
-		if row == "" {
-			continue
-		}
-		for _, in := range placesOf(row) {
-			g.addRow(row, in)
-		}
-	}
+	g := newTreeGrammar(treeRows + targetRows)
 	w := &rowWriter{g: g, least: make([]int, len(g.names))}
 	for i := range w.least {
 		w.least[i] = 1000
@@ -149,33 +140,32 @@ func (w *rowWriter) one(list ...string) string { return list[w.r.Intn(len(list))
 
 // token writes a token; the ends of lines and indentations as big words.
 func (w *rowWriter) token(symbol int, budget int) string {
-	for name, number := range w.g.tokens {
-		if number != symbol {
-			continue
-		}
-		switch name {
-		case "NAME":
-			return w.one("a", "b", "c", "d", "e", "i", "k", "x", "y", "z", "_", "f", "r", "self", "n1", "n2", "n3", "n4", "n5", "n6")
-		case "INT":
-			return w.one("0", "1", "25", "0x_ff", "0b1")
-		case "FLOAT":
-			return w.one("1.5", ".5", "2.", "1e5", "1e-7")
-		case "STR":
-			return w.one("'a'", `"b\n"`, "''", "r'\\'", "'''it's'''", `'"'`)
-		case "FSTR^", "FSTR^f":
-			return w.fstring(strings.TrimPrefix(name, "FSTR"), budget)
-		}
-		return strings.Trim(name, "'")
+	name := w.g.tokenNames[-1-symbol]
+	switch name {
+	case "NAME":
+		return w.one("a", "b", "c", "d", "e", "i", "k", "x", "y", "z", "_", "f", "r", "self", "n1", "n2", "n3", "n4", "n5", "n6")
+	case "INT":
+		return w.one("0", "1", "25", "0x_ff", "0b1")
+	case "FLOAT":
+		return w.one("1.5", ".5", "2.", "1e5", "1e-7")
+	case "STR":
+		return w.one("'a'", `"b\n"`, "''", `r'\d'`, "'''it's'''", `'"'`)
+	case "FSTR^", "FSTR^f":
+		return w.fstring(strings.TrimPrefix(name, "FSTR"), budget)
 	}
-	return ""
+	return strings.Trim(name, "'")
 }
 
 // fstring writes one with an expression of the rows in it, where that has no
 // sign that a field can't have.
 func (w *rowWriter) fstring(in string, budget int) string {
-	field := strings.Join(w.write(w.one("e", "e", "list")+in, min(budget, 2)), " ")
+	field := strings.TrimSpace(strings.Join(w.write(w.one("e", "e", "list")+in, min(budget, 2)), " "))
 	if strings.ContainsAny(field, "'\"\\#\n") {
 		field = "a"
+	}
+	if field[0] == '{' {
+		// Two of them would be none.
+		field = " " + field
 	}
 	return w.one("f'{"+field+"}'", "f\"{"+field+"!r}b\"", "f'x{"+field+":>3}{a}'", "f''", "f'{{}}'")
 }
