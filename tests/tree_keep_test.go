@@ -89,40 +89,56 @@ func TestP20KidsShareNothing(t *testing.T) {
 	}
 }
 
-// wantLeftAlone wants one answer of two calls, and the tree, with the spare
-// room behind its lists, as it was.
-func wantLeftAlone(t *testing.T, tree impl.Tree) {
-	t.Helper()
-	mark := impl.Node{Kind: -5, Op: -5, Line: -5, Text: "spare", Kids: []int64{-5}}
+func spareNode() impl.Node {
+	return impl.Node{Kind: -5, Op: -5, Line: -5, Text: "spare", Kids: []int64{-5}}
+}
+
+// withSpare copies a tree, and fills the spare room behind its lists.
+func withSpare(tree impl.Tree) impl.Tree {
 	given := copyTree(tree)
 	for i := len(given.Nodes); i < cap(given.Nodes); i++ {
-		given.Nodes[:cap(given.Nodes)][i] = mark
+		given.Nodes[:cap(given.Nodes)][i] = spareNode()
 	}
 	for _, n := range given.Nodes {
 		for j := len(n.Kids); j < cap(n.Kids); j++ {
 			n.Kids[:cap(n.Kids)][j] = -5
 		}
 	}
-	text, ok := impl.Show(given)
-	again, same := impl.Show(given)
-	if text != again || ok != same || impl.TreeOk(given) != ok || impl.TreeOk(given) != ok {
-		t.Errorf("%s: answered otherwise the second time", shown(text))
-	}
+	return given
+}
+
+// wantAsItWas wants a tree, and the spare room behind its lists, as withSpare made
+// it.
+func wantAsItWas(t *testing.T, what string, given impl.Tree, tree impl.Tree) {
+	t.Helper()
 	if !sameTree(given, tree) {
-		t.Errorf("%s: the tree was written into", shown(text))
+		t.Errorf("%s: the tree was written into", what)
 	}
 	for _, n := range given.Nodes[len(given.Nodes):cap(given.Nodes)] {
-		if !sameNode(n, mark) {
-			t.Errorf("%s: written behind the nodes", shown(text))
+		if !sameNode(n, spareNode()) {
+			t.Errorf("%s: written behind the nodes", what)
 		}
 	}
 	for _, n := range given.Nodes {
 		for _, kid := range n.Kids[len(n.Kids):cap(n.Kids)] {
 			if kid != -5 {
-				t.Errorf("%s: written behind the Kids", shown(text))
+				t.Errorf("%s: written behind the Kids", what)
 			}
 		}
 	}
+}
+
+// wantLeftAlone wants one answer of two calls, and the tree, with the spare
+// room behind its lists, as it was.
+func wantLeftAlone(t *testing.T, tree impl.Tree) {
+	t.Helper()
+	given := withSpare(tree)
+	text, ok := impl.Show(given)
+	again, same := impl.Show(given)
+	if text != again || ok != same || impl.TreeOk(given) != ok || impl.TreeOk(given) != ok {
+		t.Errorf("%s: answered otherwise the second time", shown(text))
+	}
+	wantAsItWas(t, shown(text), given, tree)
 }
 
 func TestP20ShowLeavesTreesAlone(t *testing.T) {
