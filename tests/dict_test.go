@@ -39,7 +39,7 @@ func TestP7Ordinary(t *testing.T) {
 	wantFound(t, d, 3, 1, 3, 3)
 }
 
-// TestP7SlotsOfAHash tells the rows of slots as they were reckoned by hand: entries
+// TestP7SlotsOfAHash has rows of slots written out in numbers: entries
 // of one hash take its slots one after the other, but those that they have.
 func TestP7SlotsOfAHash(t *testing.T) {
 	list := []struct {

@@ -9,8 +9,8 @@ import (
 	"loop.example/g00009/impl"
 )
 
-// TestP8QuestionsByHand tells the questions as the document's words give them.
-func TestP8QuestionsByHand(t *testing.T) {
+// TestP8QuestionsOneByOne has the questions written out, as the document's words give them.
+func TestP8QuestionsOneByOne(t *testing.T) {
 	list := []struct {
 		keys  []int64
 		asks  string
