@@ -190,19 +190,21 @@ func TestP10Drawn(t *testing.T) {
 	}
 }
 
-// Texts that the grammar allows, and ones with tokens changed, are answered too.
+// Texts that the grammar allows, ones with tokens changed, and ones full of scopes
+// are answered too.
 func TestP10AnyText(t *testing.T) {
 	t.Parallel()
+	list := []string{}
 	for seed := range int64(600) {
 		w := newRowWriter(seed + 900000)
 		toks := w.write("file", 6)
-		for range 2 {
-			src := laid(w.r, toks)
-			o := impl.Meaning([]impl.Mod{{Name: "a", Src: src}, {Name: "b", Src: newScopeWriter(seed).program()}}, 2000)
-			if o.Code == impl.OutArgs || o.Ticks > 2000 {
-				t.Fatalf("%s\n%s", src, outTold(o))
-			}
-			toks = changed(w.r, toks, allWords())
+		list = append(list, laid(w.r, toks), laid(w.r, changed(w.r, toks, allWords())))
+		list = append(list, newScopeWriter(seed).program(), "a = b = c = d = lambda *a, **k: [a]\n"+newScopeWriter(seed+5000).program())
+	}
+	for _, src := range list {
+		o := impl.Meaning([]impl.Mod{{Name: "a", Src: src}, {Name: "b", Src: src}}, 2000)
+		if o.Code == impl.OutArgs || o.Ticks > 2000 {
+			t.Fatalf("%s\n%s", src, outTold(o))
 		}
 	}
 }

@@ -103,7 +103,7 @@ func TestP10TicksOfStatements(t *testing.T) {
 		{"def f(): pass\ntry: f(1)\nexcept TypeError: pass", one(1, 1, 1)},
 		{"def f(**k): pass\ntry: f(**{1: 2})\nexcept TypeError: pass", one(1, 1, 1, 0, 1)},
 		{"def f(**k): pass\ntry: f(**{'a': 1, 2: 3})\nexcept TypeError: pass", one(1, 1, 2, 1, 1)},
-		{"def f(a, **k): pass\ntry: f(b=1, c=2)\nexcept TypeError: pass", one(1, 1, 2, 1)},
+		{"def f(a, **k): pass\ntry: f(b=1, c=2)\nexcept TypeError: pass", one(1, 1, 0, 1)},
 		{"def f(): f()\ntry: f()\nexcept RecursionError: pass", one(1, 1, 49, 49, 1)},
 		{"class M:\n  def __enter__(s): pass\n  def __exit__(s, *a): pass\nwith M(): pass", one(1, 2, 1, 1, 1, 1, 3, 1, 1)},
 		{"a = b = 1\na, b = b, a", one(1, 2, 3)},
