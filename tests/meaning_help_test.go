@@ -77,7 +77,6 @@ func rowsOf(before string, rows string) []prog {
 	return list
 }
 
-// wantTicks wants the ticks of programs, of which each costs those of its before.
 func wantTicks(t *testing.T, src string, want int64) {
 	t.Helper()
 	if o := meant(src); o.Ticks != want || o.Code > impl.OutRaised {
@@ -86,7 +85,7 @@ func wantTicks(t *testing.T, src string, want int64) {
 }
 
 // wantBudgets runs a program with every budget up to one more than it spends, or,
-// when it spends many, with some of them.
+// when it spends very many, with some of them.
 func wantBudgets(t *testing.T, src string) {
 	t.Helper()
 	whole := meant(src)
@@ -94,7 +93,7 @@ func wantBudgets(t *testing.T, src string) {
 		return
 	}
 	mods := modsOf(src)
-	step := max(whole.Ticks/60, 1)
+	step := 1 + whole.Ticks/500
 	for budget := int64(0); budget < whole.Ticks; budget += step {
 		o := impl.Meaning(mods, budget)
 		if o.Code != impl.OutTicks || o.Ticks != budget || !strings.HasPrefix(whole.Text, o.Text) || o.Exc != "" || len(o.Trace) != 0 {
