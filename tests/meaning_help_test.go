@@ -154,7 +154,7 @@ func TestP10Programs(t *testing.T) {
 	}
 }
 
-func TestP10Shown(t *testing.T) {
+func TestP5ShownMeansTheSame(t *testing.T) {
 	t.Parallel()
 	for _, p := range allProgs() {
 		wantShown(t, p.src)
