@@ -134,6 +134,7 @@ func attrProgs() []prog {
 		{"class A:\n  def __getattr__(self, n): return lambda *a: 5\na = A()\nprint(a.__len__())\nlen(a)\n", "5\n", "TypeError"},
 		{"class P:\n  def __init__(self): self.log = []\n  @property\n  def x(self): return self.log\n  x = x.setter(lambda self, v: self.log.append(v))\np = P()\np.x = 1\np.x += [2]\nprint(p.log)\n", "[1, 2, [...]]\n", ""},
 		{"class D:\n  def __get__(self, a, c): return self.v\nclass A: pass\nA.d = D()\nA.d.v = 3\nprint(A().d)\nA.d.v = 4\nprint(A().d)\n", "3\n4\n", ""},
+		{"class D:\n  def __get__(self, a, c): return 'got'\nclass S(D):\n  def __set__(self, a, v): pass\nclass A: pass\na = A()\na.x = a.y = a.z = a.f = 'own'\nA.x = property(lambda self: 'property')\nA.y = S()\nA.z = D()\nA.f = lambda self: 'f'\nprint(a.x, a.y, a.z, a.f)\n", "property got own own\n", ""},
 		{"class A: pass\nA.__call__ = A()\nA()()\n", "", "RecursionError"},
 		{"class D: pass\nD.__get__ = D()\nclass A: x = D()\nA().x\n", "", "RecursionError"},
 		{"class A:\n  @classmethod\n  def make(cls): return cls()\n  @staticmethod\n  def two(): return 2\n  both = classmethod(staticmethod(5))\nclass B(A): pass\nprint(B.make(), B().make(), A.two(), A.both)\nA.both()\n", "<B> <B> 2 <method staticmethod>\n", "TypeError"},

@@ -166,6 +166,7 @@ setattr(1, 'a') => !TypeError
 setattr(1, 'a', 2) => !AttributeError
 setattr(N, 5, 2) => !TypeError
 (ord('a'), ord('\u00e9'), chr(97), chr(233), chr(1114111) == '', chr(True)) => (97, 233, 'a', 'é', False, '\x01')
+(chr(0), ord('\x00'), chr(0xd7ff) == '', chr(0xe000) == '') => ('\x00', 0, False, False)
 ord('') => !ValueError
 ord('ab') => !ValueError
 ord(5) => !TypeError

@@ -198,6 +198,9 @@ len({f, C, print, C(), C(), f, range(1), range(1), NotImplemented, NotImplemente
 {}.get([]) => !TypeError
 set([[]]) => !TypeError
 {True: 'a', 1: 'b'} => {True: 'b'}
+{1: 'a', 1.5: 'b', -1.5: 'c', 1e300: 'd'}[1.5] => 'b'
+{1: 'a', 1.5: 'b'} => {1: 'a', 1.5: 'b'}
+{float('inf'): 1, float('-inf'): 2}[float('-inf')] => 2
 {1, True, 1.0} => {1}
 `
 
