@@ -263,7 +263,12 @@ max(range(2001)) => 2000
 2.0 ** 1000 == 2 ** 1000 => True
 2.0 ** 1001 => !ValueError
 `))
+	edge := "class A:\n  def __repr__(self):\n    print('asked')\n    return ''\ns, t = 'a' * 16380, 'a' * 16382\n"
 	wantProgs(t, []prog{
+		{edge + "try: repr([s, s, s, t, A()])\nexcept OverflowError: print('over')\n", "asked\nover\n", ""},
+		{edge + "try: repr([s + 'a', s, s, t, A()])\nexcept OverflowError: print('over')\n", "over\n", ""},
+		{edge + "try: repr((s, s, s, t, A()))\nexcept OverflowError: print('over')\n", "asked\nover\n", ""},
+		{edge + "try: repr(ValueError(s + 'a', s, s, t, A()))\nexcept OverflowError: print('over')\n", "over\n", ""},
 		{"s = 'a' * 16000\nclass A:\n  def __repr__(self):\n    print('asked')\n    return ''\ntry: repr([s, s, s, s, A()])\nexcept OverflowError: print('four')\ntry: repr([s, s, s, s, s, A()])\nexcept OverflowError: print('five')\n", "asked\nfour\nfive\n", ""},
 		{"s = 'a' * 16000\nclass A:\n  def __repr__(self):\n    print('asked')\n    return ''\nd = {1: s, 2: s, 3: s, 4: s, 5: A()}\ntry: repr(d)\nexcept OverflowError: print('four')\nd = {1: s, 2: s, 3: s, 4: s, s: s, 5: A()}\ntry: repr(d)\nexcept OverflowError: print('five')\n", "asked\nfour\nfive\n", ""},
 	})
@@ -291,6 +296,15 @@ func TestP15PlainLimits(t *testing.T) {
 	o := meant("a = [1]\nfor i in range(45): a = [a, a]\nraise ValueError(a)\n")
 	if o.Code != impl.OutRaised || len(o.Exc) > 50*65536 {
 		t.Error(o.Code, len(o.Exc))
+	}
+	for n := 45; n < 60; n++ {
+		want := "ValueError: in"
+		if n >= impl.MaxCalls {
+			want = "ValueError: ..."
+		}
+		if o := meant(fmt.Sprintf("e = ValueError('in')\nfor i in range(%d): e = ValueError(e)\nraise e\n", n)); o.Exc != want {
+			t.Errorf("%d: %s", n, o.Exc)
+		}
 	}
 	o = meant("e = ValueError(1)\nfor i in range(3000): e = ValueError(e)\nraise e\n")
 	if o.Exc != "ValueError: ..." {
