@@ -274,6 +274,58 @@ max(range(2001)) => 2000
 	})
 }
 
+// longReprProgs write things of more than MaxText bytes in other things: these
+// are no whole texts, so what stands behind them is asked too.
+func longReprProgs() []prog {
+	before := "class A:\n  def __repr__(self):\n    print('asked')\n    return 'A'\na = A()\ns, t = 'a' * 16000, 'b' * 400\nl = [s, t]\nm = (s, t)\n"
+	list := []prog{}
+	over := func(thing string, text string) {
+		list = append(list, prog{before + "try: repr(" + thing + ")\nexcept OverflowError: print('large')\n", text, ""})
+	}
+	for _, thing := range []string{
+		"[l, a]", "(l, a)", "[m, a]", "{1: l, 2: a}", "{m: a}", "{m, a}", "ValueError(l, a)", "slice(l, a, 1)", "[ValueError(s, t), a]", "[slice(s, t, 1), a]",
+		"[{s, t}, a]", "[{s: t}, a]", "[{1: s, 2: t}, a]", "[[[l]], a]", "[(m,), a]", "[((l,),), a]", "[l, l, l, a]", "[(l, l, l), a]", "[l + [a]]", "(m + (a,),)",
+	} {
+		over(thing, "asked\nlarge\n")
+	}
+	for _, thing := range []string{
+		"[l, l, l, l, a]", "(l, l, l, l, a)", "[(l, l, l, l), a]", "{1: l, 2: l, 3: l, 4: l, 5: a}", "{1: [l, l, l, l], 2: a}", "[([l, l, l, m + m],), a]", "[ValueError(m, m, m, m), a]",
+	} {
+		over(thing, "large\n")
+	}
+	text := before + "class B:\n  def __repr__(self): return repr(l)\n"
+	return append(list,
+		prog{text + "try: repr([B(), a])\nexcept OverflowError: print('large')\n", "large\n", ""},
+		prog{before + "try: print(l)\nexcept OverflowError: print('large')\ntry: str([l, a])\nexcept OverflowError: print('larger')\n", "large\nasked\nlarger\n", ""},
+		prog{before + "try: f'{[l, a]}'\nexcept OverflowError: print('large')\ntry: f'{ValueError(l, a)!r:9}'\nexcept OverflowError: print('larger')\n", "asked\nlarge\nasked\nlarger\n", ""},
+		prog{before + "try: str(ValueError(l, a))\nexcept OverflowError: print('large')\ntry: str(ValueError(l))\nexcept OverflowError: print('larger')\n", "asked\nlarge\nlarger\n", ""},
+	)
+}
+
+func TestP10ReprsInReprs(t *testing.T) {
+	wantProgs(t, longReprProgs())
+	wantTicks(t, "x = ['a' * 16000, 'b' * 400]\ntry: repr(x)\nexcept OverflowError: pass\n", 1+500+12+2+2+500+12+1)
+	wantTicks(t, "x = ['a' * 16000, 'b' * 400]\ntry: repr([x])\nexcept OverflowError: pass\n", 1+500+12+2+2+1+500+12+512+1)
+	edge := "class A:\n  def __repr__(self):\n    print('asked')\n    return 'A'\na = 'a' * 16380\ntry: repr([%s, A()])\nexcept OverflowError: print('large')\n"
+	for _, c := range []struct {
+		thing string
+		asked bool
+	}{
+		{"[a, a, a, a]", true},
+		{"[a, a, a, a + 'a']", false},
+		{"([a, a, a, a[3:]],)", true},
+		{"([a, a, a, a[2:]],)", false},
+		{"{1: [a, a, a, a[5:]]}", true},
+		{"{1: [a, a, a, a[4:]]}", false},
+	} {
+		p := prog{src: fmt.Sprintf(edge, c.thing), text: "large\n"}
+		if c.asked {
+			p.text = "asked\nlarge\n"
+		}
+		wantProg(t, p)
+	}
+}
+
 func TestP15PlainLimits(t *testing.T) {
 	item := "'" + strings.Repeat("a", 16000) + "'"
 	five := strings.Join([]string{item, item, item, item, item}, ", ")
