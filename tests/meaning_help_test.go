@@ -143,7 +143,7 @@ func allProgs() []prog {
 	return slices.Concat(
 		exprProgs(), orderProgs(), valueProgs(), operatorProgs(), compareProgs(), attrProgs(), itemProgs(),
 		callProgs(), classProgs(), stmtProgs(), matchProgs(), importProgs(), builtinProgs(), methodProgs(),
-		formatProgs(), finallyProgs(), generatorProgs(), withProgs(), raiseProgs(), pastClassProgs(), longReprProgs(),
+		formatProgs(), finallyProgs(), generatorProgs(), withProgs(), raiseProgs(), pastClassProgs(), longReprProgs(), endlessProgs(),
 	)
 }
 
