@@ -36,6 +36,8 @@ func endlessProgs() []prog {
 		{"class A: pass\nA.__init__ = property(A)\nA()\n", "", "RecursionError"},
 		{"class E(Exception): pass\nE.__init__ = property(E)\ntry: raise E\nexcept RecursionError: print('deep')\n", "deep\n", ""},
 		{"class A: pass\nA.__call__ = A()\ntry: A()()\nexcept RecursionError: print('deep')\n", "deep\n", ""},
+		{"class A: pass\na = A()\nA.__call__ = property(a)\na()\n", "", "RecursionError"},
+		{"class A: pass\nA.x = property(A())\nA.__call__ = property(lambda a: a.x)\nA().x\n", "", "RecursionError"},
 		{"class A: pass\nclass B: pass\nB.__get__ = A()\nA.__call__ = B()\nA()()\n", "", "RecursionError"},
 		{"class A: pass\nA.__getattr__ = property(len)\nA.__len__ = property(lambda a: a.gone)\nA().none\n", "", "RecursionError"},
 	}...)
