@@ -66,11 +66,71 @@ func TestP10EndlessCallsWithTicks(t *testing.T) {
 	}
 }
 
-// Calls through one another that come to an end are as many as there may be.
-func TestP10LongChainsOfCalls(t *testing.T) {
-	for _, n := range []int{1, 10, 100, 900} {
-		wantProg(t, prog{fmt.Sprintf("f = len\nfor i in range(%d):\n  class A: pass\n  A.__call__ = f\n  f = A()\nprint(f('abc'))\n", n), "3\n", ""})
-		wantProg(t, prog{fmt.Sprintf("def m(*a): return len(a)\nfor i in range(%d):\n  class A: x = classmethod(m)\n  m = A.x\nprint(m())\n", n), fmt.Sprintf("%d\n", n), ""})
+// rowProgs are rows of n things that are called, or asked, through one another,
+// with a function at their end; there is no row of frames in them.
+func rowProgs(n int) []prog {
+	list := []prog{}
+	for _, row := range []string{
+		"def f(*a): return len(a)|__call__ = x|x()|1",
+		"f = len|__call__ = x|x('abc')|3",
+		"f = len|__call__ = staticmethod(x)|x('abc')|3",
+		"def f(*a): return len(a)|__call__ = classmethod(x)|x()|N",
+		"def f(*a): return f|__call__ = property(x)|x()|<function f>",
+		"f = {}.get|__call__ = x|x(1, 2)|2",
+	} {
+		part := strings.Split(row, "|")
+		list = append(list, prog{fmt.Sprintf("%s\nx = f\nfor i in range(%d):\n  class C: %s\n  x = C()\nprint(%s)\n", part[0], n, part[1], part[2]), strings.Replace(part[3], "N", fmt.Sprint(n), 1) + "\n", ""})
+	}
+	for _, row := range []string{
+		"return f|__get__ = x|y = x|D().y|<function f>",
+		"return f|__get__ = __call__ = x|__len__ = x|len(D())|!TypeError",
+		"return f|__get__ = x|y = x|D.y is x|True",
+		"return f if len(a) < 4 else True|__get__ = __bool__ = x|__getattr__ = x|D().none|<function f>",
+	} {
+		part := strings.Split(row, "|")
+		p := prog{fmt.Sprintf("def f(*a): %s\nx = f\nfor i in range(%d):\n  class C: %s\n  x = C()\nclass D: %s\nprint(%s)\n", part[0], n, part[1], part[2], part[3]), part[4] + "\n", ""}
+		if exc, ok := strings.CutPrefix(part[4], "!"); ok {
+			p.text, p.exc = "", exc
+		}
+		list = append(list, p)
+	}
+	return append(list,
+		prog{fmt.Sprintf("class B:\n  def __call__(a, *b): pass\nC = B\nfor i in range(%d):\n  class C(B): __init__ = property(C) if i else lambda *a: None\nprint(type(C()) is C)\n", n), "True\n", ""},
+		prog{fmt.Sprintf("m = lambda *a: len(a)\nfor i in range(%d):\n  class A: x = classmethod(m)\n  m = A.x\nprint(m())\n", n), fmt.Sprintf("%d\n", n), ""})
+}
+
+func TestP10RowsOfCalls(t *testing.T) {
+	for _, n := range []int{1, 10, 49, 50, 51, 999, 1000, 1001, 1100, 1900} {
+		wantProgs(t, rowProgs(n))
+	}
+}
+
+func TestP10RowsOfCallsTicks(t *testing.T) {
+	for _, n := range []int64{1, 999, 1001, 3500} {
+		plain := fmt.Sprintf("def f(*a): return len(a)\nx = f\nfor i in range(%d):\n  class C:\n    __call__ = x\n  x = C()\nprint(x())\n", n)
+		wantTicks(t, plain, 5*n+8)
+	}
+	for _, n := range []int64{1, 999, 1001, 2300} {
+		// Each property is asked once, by a call and a return.
+		asked := fmt.Sprintf("def f(*a): return f\nx = f\nfor i in range(%d):\n  class C: __call__ = property(x)\n  x = C()\nprint(x())\n", n)
+		o := impl.Meaning(modsOf(asked), impl.MaxTicks)
+		if o.Code != impl.OutEnd || o.Text != "<function f>\n" {
+			t.Error(n, outTold(o))
+		}
+	}
+}
+
+// Rows without an end may be gone into again and again.
+func TestP10EndlessRowsAgain(t *testing.T) {
+	for _, src := range []string{
+		"class A: __len__ = property(len)\na = A()\nfor i in range(3000):\n  try: len(a)\n  except RecursionError: pass\n",
+		"class A: pass\na = A()\nA.__call__ = A()\nfor i in range(60):\n  try: a()\n  except RecursionError: pass\n",
+		"class A: pass\na = A()\nA.__call__ = classmethod(a)\nfor i in range(60):\n  try: a()\n  except RecursionError: pass\n",
+		"class A: pass\na = A()\nA.__call__ = property({a: a}.get)\nfor i in range(60):\n  try: a()\n  except RecursionError: pass\n",
+	} {
+		if o := meant(src); o.Code != impl.OutEnd {
+			t.Error(src, outTold(o))
+		}
 	}
 }
 
