@@ -15,19 +15,20 @@ import (
 const instrNames = "Const Load Store Unbind Pop Dup Dup2 Swap Rot Args Add AddAll Finish Dict Put Merge Key Keys Call Deco Attr SetAttr DelAttr Item SetItem DelItem Slice Binary Aug Unary Compare Not Jump False FalseKeep TrueKeep Func Class Comp Gen Iter For Collect Yield YieldFrom Format Join Unpack Stmt Turn Return Break Continue Loop Try Fin With BlockEnd Match Handle HandleEnd Again Reraise Raise Assert Case Import From"
 
 func instrOp(name string) int64 {
-	at := slices.Index(strings.Fields(instrNames), name)
+	at := slices.Index(instrNameList, name)
 	if at < 0 {
 		panic("no instruction " + name)
 	}
 	return int64(at + 1)
 }
 
+var instrNameList = strings.Fields(instrNames)
+
 func instrName(op int64) string {
-	names := strings.Fields(instrNames)
-	if op < 1 || op > int64(len(names)) {
+	if op < 1 || op > int64(len(instrNameList)) {
 		return fmt.Sprintf("?%d", op)
 	}
-	return names[op-1]
+	return instrNameList[op-1]
 }
 
 // step is an instruction of which the Arg is not known yet, or a label. Its arg is

@@ -469,13 +469,13 @@ func wantByRule(t *testing.T, src string) bool {
 func TestP11ByTheRules(t *testing.T) {
 	t.Parallel()
 	seen := 0
-	for i := range int64(2000) {
+	for i := range int64(1500) {
 		w := newRowWriter(i + 90000)
-		if wantByRule(t, laid(w.r, w.write("file", 3+int(i%8)))) {
+		if wantByRule(t, laid(w.r, w.write("file", 3+int(i%6)))) {
 			seen++
 		}
 	}
-	if seen < 1000 {
+	if seen < 750 {
 		t.Error("too few texts without a fault:", seen)
 	}
 	for i := range int64(600) {
