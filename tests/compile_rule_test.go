@@ -469,16 +469,16 @@ func wantByRule(t *testing.T, src string) bool {
 func TestP11ByTheRules(t *testing.T) {
 	t.Parallel()
 	seen := 0
-	for i := range int64(1500) {
+	for i := range int64(700) {
 		w := newRowWriter(i + 90000)
 		if wantByRule(t, laid(w.r, w.write("file", 3+int(i%6)))) {
 			seen++
 		}
 	}
-	if seen < 750 {
+	if seen < 350 {
 		t.Error("too few texts without a fault:", seen)
 	}
-	for i := range int64(600) {
+	for i := range int64(250) {
 		wantByRule(t, newScopeWriter(i+90000).program())
 		wantByRule(t, drawnProgram(i))
 		wantByRule(t, flowProgram(i))

@@ -77,7 +77,7 @@ func foldProgram(seed int64) string {
 func TestP12DrawnPrograms(t *testing.T) {
 	t.Parallel()
 	shorter := 0
-	for seed := range int64(400) {
+	for seed := range int64(150) {
 		c := codeOf(t, foldProgram(seed))
 		if !impl.CodeOk(c) {
 			t.Fatalf("%s\n can't be run", foldProgram(seed))
@@ -87,7 +87,7 @@ func TestP12DrawnPrograms(t *testing.T) {
 			shorter++
 		}
 	}
-	if shorter < 300 {
+	if shorter < 110 {
 		t.Error("few were improved:", shorter)
 	}
 }
@@ -165,7 +165,7 @@ func TestP12ChangedCode(t *testing.T) {
 	t.Parallel()
 	r := rand.New(rand.NewSource(12))
 	good := 0
-	for seed := range int64(250) {
+	for seed := range int64(120) {
 		c := codeOf(t, foldProgram(seed%300))
 		for range 8 {
 			d := changedCode(r, c)
@@ -179,7 +179,7 @@ func TestP12ChangedCode(t *testing.T) {
 			wantSlowly(t, d)
 		}
 	}
-	if good < 400 {
+	if good < 200 {
 		t.Error("little can be run:", good)
 	}
 }
@@ -285,7 +285,7 @@ func TestP12Programs(t *testing.T) {
 			check(m.Src)
 		}
 	}
-	for i := range int64(250) {
+	for i := range int64(120) {
 		check(drawnProgram(i))
 		check(flowProgram(i))
 		check(oddProgram(i))

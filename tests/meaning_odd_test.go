@@ -66,7 +66,7 @@ func oddProgram(seed int64) string {
 func TestP10OddClasses(t *testing.T) {
 	t.Parallel()
 	codes := map[int64]int{}
-	for seed := range int64(1500) {
+	for seed := range int64(900) {
 		src := oddProgram(seed)
 		o := impl.Meaning(modsOf(src), 2000)
 		codes[o.Code]++
@@ -80,7 +80,7 @@ func TestP10OddClasses(t *testing.T) {
 			}
 		}
 	}
-	if codes[impl.OutEnd] < 200 || codes[impl.OutRaised] < 200 || codes[impl.OutTicks] < 10 {
+	if codes[impl.OutEnd] < 120 || codes[impl.OutRaised] < 120 || codes[impl.OutTicks] < 10 {
 		t.Error(codes)
 	}
 }
