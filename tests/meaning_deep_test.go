@@ -120,13 +120,19 @@ func TestP10RowsOfCallsTicks(t *testing.T) {
 	}
 }
 
+// A row that is gone along very often without a tick between has its end, too.
+func TestP10RowsOfCallsOften(t *testing.T) {
+	src := "f = len\nfor i in range(3500):\n  class A: __call__ = f\n  f = A()\nprint(" + strings.Repeat("f(''), ", 1200) + "f('ab'))\n"
+	wantProg(t, prog{src, strings.Repeat("0 ", 1200) + "2\n", ""})
+}
+
 // Rows without an end may be gone into again and again.
 func TestP10EndlessRowsAgain(t *testing.T) {
 	for _, src := range []string{
 		"class A: __len__ = property(len)\na = A()\nfor i in range(3000):\n  try: len(a)\n  except RecursionError: pass\n",
-		"class A: pass\na = A()\nA.__call__ = A()\nfor i in range(60):\n  try: a()\n  except RecursionError: pass\n",
-		"class A: pass\na = A()\nA.__call__ = classmethod(a)\nfor i in range(60):\n  try: a()\n  except RecursionError: pass\n",
-		"class A: pass\na = A()\nA.__call__ = property({a: a}.get)\nfor i in range(60):\n  try: a()\n  except RecursionError: pass\n",
+		"class A: pass\na = A()\nA.__call__ = A()\nfor i in range(25):\n  try: a()\n  except RecursionError: pass\n",
+		"class A: pass\na = A()\nA.__call__ = classmethod(a)\nfor i in range(25):\n  try: a()\n  except RecursionError: pass\n",
+		"class A: pass\na = A()\nA.__call__ = property({a: a}.get)\nfor i in range(25):\n  try: a()\n  except RecursionError: pass\n",
 	} {
 		if o := meant(src); o.Code != impl.OutEnd {
 			t.Error(src, outTold(o))
