@@ -3,6 +3,7 @@ package tests
 import (
 	"fmt"
 	"math"
+	"slices"
 	"strings"
 	"testing"
 
@@ -27,17 +28,58 @@ func fullCode() impl.Code {
 	}}
 }
 
+// wantTaken asks all who take code whether they take this one.
+func wantTaken(t *testing.T, what string, c impl.Code, want bool) {
+	t.Helper()
+	if impl.CodeOk(c) != want {
+		t.Errorf("%s: %v", what, !want)
+	}
+	if n := impl.Measure(c); (n >= 0) != want || n < -1 {
+		t.Errorf("%s: Measure %d", what, n)
+	}
+	if n := len(impl.Improve(c).Parts); (n > 0) != want {
+		t.Errorf("%s: Improve answers %d parts", what, n)
+	}
+	if n := len(impl.Depths(c)); want && n != len(c.Parts) || !want && n != 0 {
+		t.Errorf("%s: Depths of %d parts", what, n)
+	}
+	if b, ok := impl.PackCode(c); ok != want || (len(b) > 0) != want {
+		t.Errorf("%s: PackCode %d bytes, %v", what, len(b), ok)
+	}
+	if o := impl.RunCode(c, 0); (o.Code != impl.OutArgs) != want || !want && !sameOut(o, impl.Out{Code: impl.OutArgs}) {
+		t.Errorf("%s: RunCode %s", what, outTold(o))
+	}
+	if linesAreOne(c) {
+		wantTakenBytes(t, what, c, want)
+	}
+}
+
+// linesAreOne tells whether bytes can tell all of patterns, of which they have no
+// Lines.
+func linesAreOne(c impl.Code) bool {
+	for _, p := range c.Parts {
+		for _, tree := range p.Pats {
+			if slices.ContainsFunc(tree.Nodes, func(n impl.Node) bool { return n.Line != 1 }) {
+				return false
+			}
+		}
+	}
+	return true
+}
+
+func wantTakenBytes(t *testing.T, what string, c impl.Code, want bool) {
+	t.Helper()
+	if d, code := impl.ReadCode(packedRule(c)); (code == impl.PackOk) != want || !want && (code != impl.PackForm || len(d.Parts) > 0) {
+		t.Errorf("%s: ReadCode %d", what, code)
+	}
+}
+
 // wantCodeOk changes full code, and holds what all who take code say against it.
 func wantCodeOk(t *testing.T, what string, want bool, change func(c *impl.Code)) {
 	t.Helper()
 	c := copyCode(fullCode())
 	change(&c)
-	if impl.CodeOk(c) != want {
-		t.Errorf("%s: %v", what, !want)
-	}
-	if (impl.Measure(c) >= 0) != want || (len(impl.Improve(c).Parts) > 0) != want {
-		t.Errorf("%s: Measure or Improve take it otherwise", what)
-	}
+	wantTaken(t, what, c, want)
 }
 
 // wantPart changes one part of full code.

@@ -180,11 +180,18 @@ func ruleStep(p impl.Part, at int64, w ruleWay) ([]ruleAim, bool) {
 	return []ruleAim{{at + 1, next}}, ok
 }
 
-// waysRule goes all ways through a part, of which the Args are right.
+// waysRule tells whether all ways through a part can be gone.
 func waysRule(p impl.Part) bool {
+	_, ok := depthRule(p)
+	return ok
+}
+
+// depthRule goes all ways through a part, of which the Args are right, and tells
+// how many values there are at most.
+func depthRule(p impl.Part) (int64, bool) {
 	last := len(p.Instrs) - 1
 	if last < 0 || !strings.Contains(" "+strings.Join(wayEnds, " ")+" ", " "+instrName(p.Instrs[last].Op)+" ") {
-		return false
+		return 0, false
 	}
 	met := make([]*ruleWay, len(p.Instrs))
 	first := ruleWay{vals: map[int64]string{impl.FormNone: "", impl.FormGen: "I"}[p.Form]}
@@ -198,7 +205,7 @@ func waysRule(p impl.Part) bool {
 		todo = todo[1:]
 		next, ok := ruleStep(p, at, *met[at])
 		if !ok {
-			return false
+			return 0, false
 		}
 		for _, to := range next {
 			if met[to.place] == nil {
@@ -206,11 +213,17 @@ func waysRule(p impl.Part) bool {
 				todo = append(todo, to.place)
 			}
 			if *met[to.place] != to.way {
-				return false
+				return 0, false
 			}
 		}
 	}
-	return true
+	most := 0
+	for _, way := range met {
+		if way != nil {
+			most = max(most, len(way.vals))
+		}
+	}
+	return int64(most), true
 }
 
 // turned is code with an instruction turned into another one, its Arg right for

@@ -31,12 +31,7 @@ func wantWays(t *testing.T, kind string, text string, want bool) {
 	p.Params, p.Names = parts[at].Params, parts[at].Names
 	parts[at] = p
 	c := impl.Code{Parts: parts}
-	if got := impl.CodeOk(c); got != want {
-		t.Errorf("%s: %s: %v\n%s", kind, text, got, listing(p))
-	}
-	if (impl.Measure(c) >= 0) != want {
-		t.Errorf("%s: %s: Measure takes it otherwise", kind, text)
-	}
+	wantTaken(t, fmt.Sprintf("%s: %s\n%s\n", kind, text, listing(p)), c, want)
 }
 
 // wayRows: with each row stands whether it can be run, + or -.
@@ -335,9 +330,7 @@ func TestP12Args(t *testing.T) {
 			want = arg >= 0 && arg < places
 		}
 		parts[0] = p
-		if got := impl.CodeOk(impl.Code{Parts: parts}); got != want {
-			t.Errorf("%s %d: %v", op, arg, got)
-		}
+		wantTaken(t, fmt.Sprint(op, " ", arg), impl.Code{Parts: parts}, want)
 	}
 	for _, op := range instrNameList {
 		if list, ok := special[op]; ok {
@@ -364,9 +357,7 @@ func TestP12Args(t *testing.T) {
 	for _, op := range []int64{0, -1, impl.IFrom + 1, math.MaxInt64, math.MinInt64} {
 		parts := fullCode().Parts
 		parts[0].Instrs = append([]impl.Instr{{Op: impl.IConst}, {Op: impl.IReturn}, {Op: op}}, impl.Instr{Op: impl.IReturn})
-		if impl.CodeOk(impl.Code{Parts: parts}) {
-			t.Error("no instruction:", op)
-		}
+		wantTaken(t, fmt.Sprint("no instruction ", op), impl.Code{Parts: parts}, false)
 	}
 }
 
@@ -378,9 +369,7 @@ func TestP12Limits(t *testing.T) {
 		f := moduleOf("Const=1 Return").Parts[0]
 		f.Kind = impl.ScFunction
 		c.Parts = append(c.Parts, f)
-		if impl.CodeOk(c) != (n == impl.MaxInstrs) {
-			t.Error(n, "instructions in two parts")
-		}
+		wantTaken(t, fmt.Sprint(n, " instructions in two parts"), c, n == impl.MaxInstrs)
 	}
 	for _, n := range []int{impl.MaxCodeParts, impl.MaxCodeParts + 1} {
 		c := moduleOf("Const=1 Return")
@@ -389,9 +378,7 @@ func TestP12Limits(t *testing.T) {
 		for len(c.Parts) < n {
 			c.Parts = append(c.Parts, f)
 		}
-		if impl.CodeOk(c) != (n == impl.MaxCodeParts) {
-			t.Error(n, "parts")
-		}
+		wantTaken(t, fmt.Sprint(n, " parts"), c, n == impl.MaxCodeParts)
 	}
 	// 100000 values, and one more: each Unpack takes one.
 	wantWays2(t, true, "Const=1 "+strings.Repeat("Unpack=9999 ", 10)+strings.Repeat("Dup ", 19)+"Return")
@@ -400,9 +387,7 @@ func TestP12Limits(t *testing.T) {
 
 func wantWays2(t *testing.T, want bool, text string) {
 	t.Helper()
-	if impl.CodeOk(moduleOf(text)) != want {
-		t.Errorf("%.80s..: %v", text, !want)
-	}
+	wantTaken(t, fmt.Sprintf("%.80s..", text), moduleOf(text), want)
 }
 
 // At all places together there are 40000000 values at most: none, one, 7999 times
