@@ -36,17 +36,17 @@ func TestP10Faults(t *testing.T) {
 		{"def f(): [(yield) for i in a]", impl.Fault{Code: impl.FaultScope, Line: 1}},
 		{deep.String(), impl.Fault{Code: impl.FaultForm}},
 	} {
-		o := impl.Meaning([]impl.Mod{{Name: "m", Src: c.src}}, 100)
+		o := meaning([]impl.Mod{{Name: "m", Src: c.src}}, 100)
 		if !sameOut(o, impl.Out{Code: impl.OutFault, Fault: c.fault}) {
 			t.Errorf("%.40q: %s", c.src, outTold(o))
 		}
 		mods := []impl.Mod{{Name: "a", Src: "print('b')\ntry: import bad\nexcept: print('no')\nfinally: print('no')\n"}, {Name: "fine", Src: ""}, {Name: "bad", Src: c.src}}
-		o = impl.Meaning(mods, 100)
+		o = meaning(mods, 100)
 		if !sameOut(o, impl.Out{Code: impl.OutFault, Text: "b\n", Ticks: 3, Mod: 2, Fault: c.fault}) {
 			t.Errorf("imported %.40q: %s", c.src, outTold(o))
 		}
 		mods[0].Src = "import fine\nif 0: import bad\nprint('end')"
-		if o = impl.Meaning(mods, 100); !sameOut(o, impl.Out{Text: "end\n", Ticks: 3}) {
+		if o = meaning(mods, 100); !sameOut(o, impl.Out{Text: "end\n", Ticks: 3}) {
 			t.Errorf("never executed %.40q: %s", c.src, outTold(o))
 		}
 	}
@@ -84,19 +84,19 @@ func TestP10Args(t *testing.T) {
 	for i := range impl.MaxMods {
 		many = append(many, impl.Mod{Name: fmt.Sprint("m", i), Src: fmt.Sprintf("print(%d)\nif %d < 19: import m%d", i, i, i+1)})
 	}
-	if o := impl.Meaning(many, 100); o.Code != impl.OutEnd || strings.Count(o.Text, "\n") != impl.MaxMods {
+	if o := meaning(many, 100); o.Code != impl.OutEnd || strings.Count(o.Text, "\n") != impl.MaxMods {
 		t.Error(outTold(o))
 	}
 	long := strings.Repeat("n", impl.MaxName)
 	for _, name := range []string{"a", "_", "A9_", long, "print", "matched", "__main__"} {
-		if o := impl.Meaning([]impl.Mod{{Name: name, Src: "print(__name__)"}}, 10); !sameOut(o, impl.Out{Text: "__main__\n", Ticks: 1}) {
+		if o := meaning([]impl.Mod{{Name: name, Src: "print(__name__)"}}, 10); !sameOut(o, impl.Out{Text: "__main__\n", Ticks: 1}) {
 			t.Errorf("%q: %s", name, outTold(o))
 		}
 	}
-	if o := impl.Meaning([]impl.Mod{m}, impl.MaxTicks); !sameOut(o, impl.Out{Text: "1\n", Ticks: 1}) {
+	if o := meaning([]impl.Mod{m}, impl.MaxTicks); !sameOut(o, impl.Out{Text: "1\n", Ticks: 1}) {
 		t.Error(outTold(o))
 	}
-	if o := impl.Meaning([]impl.Mod{m}, 0); !sameOut(o, impl.Out{Code: impl.OutTicks}) {
+	if o := meaning([]impl.Mod{m}, 0); !sameOut(o, impl.Out{Code: impl.OutTicks}) {
 		t.Error(outTold(o))
 	}
 	type call struct {
@@ -111,7 +111,7 @@ func TestP10Args(t *testing.T) {
 		calls = append(calls, call{[]impl.Mod{{Name: name, Src: "print(1)"}}, 10}, call{[]impl.Mod{m, {Name: name}}, 10})
 	}
 	for _, c := range calls {
-		if o := impl.Meaning(c.mods, c.budget); !sameOut(o, impl.Out{Code: impl.OutArgs}) {
+		if o := meaning(c.mods, c.budget); !sameOut(o, impl.Out{Code: impl.OutArgs}) {
 			t.Errorf("%v %d: %s", c.mods, c.budget, outTold(o))
 		}
 	}
@@ -222,7 +222,7 @@ func TestP10DepthOfThings(t *testing.T) {
 	mods[len(mods)-1].Src = "print('last')"
 	for n := 25; n < 35; n++ {
 		mods[0].Src = fmt.Sprintf("def f(n):\n  if n: f(n - 1)\n  else: import m1\nf(%d)\n", n)
-		o := impl.Meaning(mods, 1000)
+		o := meaning(mods, 1000)
 		if fits := 1 + n + 1 + impl.MaxMods - 1; (fits <= impl.MaxCalls) != (o.Text == "last\n") || o.Text == "" && o.Exc != "RecursionError" {
 			t.Errorf("%d: %s", n, outTold(o))
 		}

@@ -55,7 +55,7 @@ func TestP10EndlessCallsWithTicks(t *testing.T) {
 		"class A: pass\nA.__iter__ = property(iter)\nA.__next__ = property(next)\nnext(A())\n",
 	} {
 		for _, budget := range []int64{50, 3000, impl.MaxTicks} {
-			if o := impl.Meaning(modsOf(src), budget); o.Code != impl.OutTicks || o.Ticks != budget {
+			if o := meaning(modsOf(src), budget); o.Code != impl.OutTicks || o.Ticks != budget {
 				t.Errorf("%s\n with %d: %s", src, budget, outTold(o))
 			}
 		}
@@ -113,7 +113,7 @@ func TestP10RowsOfCallsTicks(t *testing.T) {
 	for _, n := range []int64{1, 999, 1001, 2300} {
 		// Each property is asked once, by a call and a return.
 		asked := fmt.Sprintf("def f(*a): return f\nx = f\nfor i in range(%d):\n  class C: __call__ = property(x)\n  x = C()\nprint(x())\n", n)
-		o := impl.Meaning(modsOf(asked), impl.MaxTicks)
+		o := meaning(modsOf(asked), impl.MaxTicks)
 		if o.Code != impl.OutEnd || o.Text != "<function f>\n" {
 			t.Error(n, outTold(o))
 		}

@@ -202,7 +202,7 @@ func TestP10AnyText(t *testing.T) {
 		list = append(list, newScopeWriter(seed).program(), "a = b = c = d = lambda *a, **k: [a]\n"+newScopeWriter(seed+5000).program())
 	}
 	for _, src := range list {
-		o := impl.Meaning([]impl.Mod{{Name: "a", Src: src}, {Name: "b", Src: src}}, 2000)
+		o := meaning([]impl.Mod{{Name: "a", Src: src}, {Name: "b", Src: src}}, 2000)
 		if o.Code == impl.OutArgs || o.Ticks > 2000 {
 			t.Fatalf("%s\n%s", src, outTold(o))
 		}

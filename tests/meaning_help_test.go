@@ -30,7 +30,18 @@ func modsOf(src string) []impl.Mod {
 	return mods
 }
 
-func meant(src string) impl.Out { return impl.Meaning(modsOf(src), impl.MaxTicks) }
+func meant(src string) impl.Out { return meaning(modsOf(src), impl.MaxTicks) }
+
+// meaning is what Meaning tells, and the machine has to tell.
+func meaning(mods []impl.Mod, budget int64) impl.Out {
+	means := impl.Meaning(mods, budget)
+	for how := int64(0); how <= 2; how++ {
+		if o := impl.RunMods(mods, budget, how); !sameOut(o, means) {
+			panic(fmt.Sprintf("%v\n with %d means %s\n how %d %s", mods, budget, outTold(means), how, outTold(o)))
+		}
+	}
+	return means
+}
 
 func outTold(o impl.Out) string {
 	return fmt.Sprintf("code %d exc %.300q trace %v ticks %d mod %d fault %v text of %d %.500q", o.Code, o.Exc, o.Trace, o.Ticks, o.Mod, o.Fault, len(o.Text), o.Text)

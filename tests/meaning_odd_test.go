@@ -68,13 +68,13 @@ func TestP10OddClasses(t *testing.T) {
 	codes := map[int64]int{}
 	for seed := range int64(900) {
 		src := oddProgram(seed)
-		o := impl.Meaning(modsOf(src), 2000)
+		o := meaning(modsOf(src), 2000)
 		codes[o.Code]++
 		if o.Code == impl.OutFault || o.Code == impl.OutArgs || o.Ticks > 2000 {
 			t.Fatalf("%s\n is %s", src, outTold(o))
 		}
 		for _, budget := range []int64{20, 25, 30, 40, 60, 100, 500, 1999} {
-			less := impl.Meaning(modsOf(src), budget)
+			less := meaning(modsOf(src), budget)
 			if budget >= o.Ticks && o.Code != impl.OutTicks && !sameOut(o, less) || !strings.HasPrefix(o.Text, less.Text) || budget < o.Ticks && less.Code != impl.OutTicks {
 				t.Fatalf("%s\n is %s\n with %d %s", src, outTold(o), budget, outTold(less))
 			}

@@ -307,7 +307,7 @@ func TestP10Beginning(t *testing.T) {
 	src := "n = 0\nwhile True:\n  n += 1\n  print(n % 10, end='')\n"
 	whole := meant(src)
 	for _, budget := range []int64{0, 1, 2, 3, 4, 5, 6, 100, 4999, 19999, 20000} {
-		o := impl.Meaning(modsOf(src), budget)
+		o := meaning(modsOf(src), budget)
 		if o.Code != impl.OutTicks || o.Ticks != budget || !strings.HasPrefix(whole.Text, o.Text) {
 			t.Errorf("%d: %s", budget, outTold(o))
 		}
