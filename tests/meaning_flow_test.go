@@ -252,7 +252,7 @@ func flowProgram(seed int64) string {
 func TestP14OnceEach(t *testing.T) {
 	t.Parallel()
 	ended := 0
-	for seed := range int64(3000) {
+	for seed := range int64(1500) {
 		src := flowProgram(seed)
 		o := meant(src)
 		if o.Code == impl.OutRaised || o.Code == impl.OutArgs {
@@ -282,7 +282,7 @@ func TestP14OnceEach(t *testing.T) {
 			t.Fatalf("%s\n%s\n%d did not end", src, o.Text, open)
 		}
 	}
-	if ended < 2000 {
+	if ended < 1000 {
 		t.Error("too few came to their end", ended)
 	}
 }

@@ -246,7 +246,7 @@ func nestProgram(seed int64) (string, string) {
 
 func TestP10NamesOfDrawnNests(t *testing.T) {
 	t.Parallel()
-	for seed := range int64(3000) {
+	for seed := range int64(1500) {
 		src, text := nestProgram(seed)
 		if o := meant(src); o.Code != impl.OutEnd || o.Text != text {
 			t.Fatalf("%d: %s\n is %s\n not %s", seed, src, outTold(o), text)
