@@ -109,10 +109,19 @@ func TestP14MachineHandlers(t *testing.T) {
 		{"Try>h" + boom + "h: Handle=x Load=len Args Load=x Attr=args Add Call Store=n HandleEnd=x Load=n Return", "0", ""},
 	})
 	// The empty word is a word.
-	c := codeBy(inFunction("Try>h" + boom + "h: Handle=x HandleEnd=x Try>g show=x BlockEnd end g: Pop say='unbound' end"))
+	c := codeBy(inFunction("Try>h" + boom + "h: Handle=x Load=repr Load=x Deco tell HandleEnd=x Try>g show=x BlockEnd end g: Pop say='unbound' end"))
 	f := &c.Parts[1]
 	f.Words[slices.Index(f.Words, "x")] = ""
-	wantCodeRun(t, "the empty word", c, "unbound None", "")
+	wantCodeRun(t, "the empty word", c, "ValueError() unbound None", "")
+}
+
+// What no handler takes goes on as it is: it gets no context from what is being
+// handled where it passes.
+func TestP14MachineReraises(t *testing.T) {
+	src := "def g():\n  try: raise ValueError\n  except ValueError:\n    yield 1\n    raise\ni = g()\nnext(i)\ntry:\n  try: 1 / 0\n  except ZeroDivisionError:\n    try: next(i)\n    except KeyError: pass\nexcept ValueError as e: print(e.__context__)\n"
+	if o := meant(src); o.Text != "None\n" {
+		t.Error(outTold(o))
+	}
 }
 
 func TestP14MachineFinally(t *testing.T) {
@@ -280,6 +289,8 @@ func TestP11MachineParts(t *testing.T) {
 		// Raising.
 		{"Load=ValueError Load=KeyError Raise=2", "", "ValueError"},
 		{"Load=ValueError Const=None Raise=2", "", "ValueError"},
+		{"Try>h Load=ValueError Load=KeyError Raise=2 h: Handle=x Load=repr Load=x Attr=__cause__ Deco tell end", "KeyError()", ""},
+		{"Try>h Load=ValueError Const=None Raise=2 h: Handle=x Load=x Attr=__cause__ tell end", "None", ""},
 		{"Load=ValueError Const=5 Raise=2", "", "TypeError"},
 		{"Const=5 Raise=1", "", "TypeError"},
 		{"Load=int Raise=1", "", "TypeError"},
