@@ -139,10 +139,11 @@ func (g *gcRule) isAlive(n int64) bool {
 	return n > 0 && n < int64(len(g.things)) && !g.things[n].freed
 }
 
+// count passes by the rows of freed things that have not let go yet.
 func (g *gcRule) count(of int64) int64 {
 	n := int64(0)
 	for _, row := range g.rows {
-		if row[1] == of {
+		if row[1] == of && (row[0] == 0 || g.isAlive(row[0])) {
 			n++
 		}
 	}
@@ -258,7 +259,7 @@ func (g *gcRule) die(n int64) {
 		of := g.rows[at][1]
 		for g.less(n, of) {
 		}
-		if g.count(of) == 0 {
+		if g.isAlive(of) && g.count(of) == 0 {
 			g.die(of)
 		}
 	}
@@ -326,4 +327,35 @@ func drawnGc(r *rand.Rand, n int) []impl.GcOp {
 		out = append(out, op)
 	}
 	return out
+}
+
+// drawnDeaths draws things that hold one another mostly without a ring, with weak
+// references and finalizers; the root lets go of all, so that many die by few.
+func drawnDeaths(r *rand.Rand) []impl.GcOp {
+	n := 3 + r.Intn(7)
+	out := slices.Repeat([]impl.GcOp{{Kind: impl.GcNew}}, n)
+	names := r.Perm(n)
+	pick := func() int64 { return int64(r.Intn(n) + 1) }
+	for range n + r.Intn(3*n) {
+		a, b := r.Intn(n), r.Intn(n)
+		if a > b && r.Intn(40) > 0 {
+			a, b = b, a
+		}
+		if a != b {
+			out = append(out, impl.GcOp{Kind: impl.GcHold, A: int64(names[a] + 1), B: int64(names[b] + 1)})
+		}
+	}
+	for range r.Intn(n) {
+		out = append(out, impl.GcOp{Kind: impl.GcWeak, A: pick()}, impl.GcOp{Kind: impl.GcFinal, A: pick(), B: int64(r.Intn(3))})
+	}
+	for range r.Intn(3) {
+		out = append(out, impl.GcOp{Kind: impl.GcDrop, A: pick(), B: pick()})
+	}
+	for _, at := range slices.Backward(names) {
+		out = append(out, impl.GcOp{Kind: impl.GcUnroot, A: int64(at + 1)})
+	}
+	for range r.Intn(4) {
+		out = append(out, impl.GcOp{Kind: impl.GcUnroot, A: pick()}, impl.GcOp{Kind: impl.GcCount, A: pick()})
+	}
+	return append(out, impl.GcOp{Kind: impl.GcCollect}, impl.GcOp{Kind: impl.GcAlive})
 }

@@ -103,8 +103,6 @@ func TestP17OrderOfDeath(t *testing.T) {
 		{"3*new; hold 1 3; hold 1 3; hold 1 2; 2*drop 1 3; hold 1 3; unroot 2; unroot 3", "unroot 1", "0 | free1 free2 free3"},
 		{"4*new; hold 1 2; hold 1 3; hold 1 4; drop 1 3; unroot 2; unroot 4", "unroot 1; count 3", "0 1 | free1 free2 free4"},
 		{"5*new; hold 1 2; hold 1 3; hold 2 4; hold 2 5; unroot 2; unroot 3; unroot 4; unroot 5", "unroot 1", "0 | free1 free2 free4 free5 free3"},
-		// 4 is held by 1 until its turn, so that 2 does not take it along.
-		{"4*new; hold 1 2; hold 1 3; hold 1 4; hold 2 4; unroot 2; unroot 3; unroot 4", "unroot 1", "0 | free1 free2 free3 free4"},
 		{"4*new; hold 1 2; hold 1 3; hold 1 4; hold 3 2; unroot 2; unroot 3; unroot 4", "unroot 1", "0 | free1 free3 free2 free4"},
 		{"3*new; hold 1 2; hold 1 2; hold 1 3; hold 3 2; unroot 2; unroot 3", "unroot 1", "0 | free1 free3 free2"},
 		{"3*new; hold 1 2; hold 1 3; hold 1 2; unroot 3", "unroot 1; count 2", "0 1 | free1 free3"},
@@ -115,6 +113,33 @@ func TestP17OrderOfDeath(t *testing.T) {
 		{"new; 3*hold 1 1; unroot 1", "drop 1 1; drop 1 1; drop 1 1", "2 1 0 | free1"},
 		{"3*new; hold 1 2; hold 1 3; unroot 2; unroot 3; final 2 2; weak 3", "unroot 1; alive; unroot 2", "0 1 0 | free1 final2 weak3 free3 free2"},
 		{"3*new; hold 1 2; hold 2 3; unroot 2; unroot 3; final 2 2", "unroot 1; count 3; unroot 2", "0 1 0 | free1 final2 free2 free3"},
+	})
+}
+
+// What a freed thing held, and has not let go yet, is not counted: one that dies
+// on the way takes it along.
+func TestP17FreedThingsDoNotCount(t *testing.T) {
+	four := "4*new; hold 1 2; hold 1 3; hold 1 4; "
+	lone := "unroot 2; unroot 3; unroot 4"
+	five := "5*new; hold 1 2; hold 1 3; hold 1 4; hold 1 5; "
+	wantGc(t, []gcRow{
+		{four + "hold 2 4; " + lone, "count 4; unroot 1; alive", "2 0 0 | free1 free2 free4 free3"},
+		{four + "hold 1 4; 3*hold 2 4; " + lone, "unroot 1", "0 | free1 free2 free4 free3"},
+		{four + "hold 2 4; hold 3 4; " + lone, "unroot 1", "0 | free1 free2 free3 free4"},
+		{four + "hold 2 4; hold 4 3; " + lone, "unroot 1", "0 | free1 free2 free4 free3"},
+		{four + "hold 2 4; " + lone + "; final 4 1; weak 4; final 3 2", "unroot 1; alive; count 3", "0 1 1 | free1 free2 final4 weak4 free4 final3"},
+		// 4 is held by the root again when its turn comes.
+		{four + "hold 2 4; " + lone + "; final 4 2; weak 4", "unroot 1; count 4; unroot 4", "0 1 0 | free1 free2 final4 free3 weak4 free4"},
+		// 2 lives, and holds 4 on.
+		{four + "hold 2 4; " + lone + "; final 2 2", "unroot 1; count 4; unroot 2", "0 1 0 | free1 final2 free3 free2 free4"},
+		{four + "hold 2 4; unroot 2; unroot 3", "unroot 1; count 4; unroot 4", "0 1 0 | free1 free2 free3 free4"},
+		{four + "hold 2 4; hold 4 4; " + lone, "unroot 1; count 4; collect", "0 1 1 | free1 free2 free3 free4"},
+		{four + "hold 2 4; hold 4 1; " + lone + "; unroot 1", "count 1; drop 4 1; alive", "1 0 0 | free1 free2 free4 free3"},
+		{five + "hold 2 5; hold 5 4; " + lone + "; unroot 5", "unroot 1", "0 | free1 free2 free5 free4 free3"},
+		{five + "hold 2 5; hold 2 4; hold 4 3; hold 5 3; " + lone + "; unroot 5", "unroot 1", "0 | free1 free2 free5 free4 free3"},
+		// Both 1 and 2 wait to let 5 go when 3, which 2 holds, takes it along.
+		{"5*new; hold 1 2; hold 1 4; hold 1 5; hold 2 3; hold 2 4; hold 2 5; hold 3 5; " + lone + "; unroot 5", "unroot 1", "0 | free1 free2 free3 free5 free4"},
+		{"4*new; hold 1 2; hold 2 3; hold 2 4; hold 2 1; hold 3 4; " + lone + "; unroot 1", "drop 1 2; alive", "0 0 | free2 free3 free4 free1"},
 	})
 }
 
@@ -246,6 +271,12 @@ func TestP17ByTheRuleLong(t *testing.T) {
 	})
 }
 
+func TestP17DeathsByTheRule(t *testing.T) {
+	inPieces(t, 16000, func(t *testing.T, i int) {
+		wantGcRule(t, drawnDeaths(rand.New(rand.NewSource(int64(i)+130000))))
+	})
+}
+
 // gcLedger is what the root and things hold by what GcRun says of operations.
 type gcLedger struct {
 	made  int64
@@ -316,6 +347,9 @@ func TestP17ReachedAndFreed(t *testing.T) {
 	inPieces(t, 2000, func(t *testing.T, i int) {
 		r := rand.New(rand.NewSource(int64(i) + 50000))
 		ops := drawnGc(r, 40)
+		if i%3 == 0 {
+			ops = drawnDeaths(r)
+		}
 		l := gcLedger{freed: map[int64]int{}, final: map[int64]int64{}, ran: map[int64]int{}, weaks: map[int64]bool{}}
 		told := 0
 		for k, op := range ops {
